@@ -1,0 +1,1 @@
+"""Callwishes: a house of calls, and wishes that quarrel."""
