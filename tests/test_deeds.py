@@ -1,65 +1,11 @@
-"""Points 13 to 18: deeds, how calls come, and what follows each deed.
-
-Calls are written as ab:talk or ab:talk:hid, events as rings:a:b or rings:a:b:hid, rules as in
-`0 in * night send:c 0`, tales' rules as in `tale 0 comes *,b used 1`, with `!` for broken.
-"""
+"""Points 13 to 18: deeds, how calls come, and what follows each deed, written as in helper.py."""
 
 import itertools
 import unittest
 
 from callwishes.deeds import stepped
-from callwishes.wishes import all_deeds, is_house
-
-
-def deed_in(text):
-    word, *lines = text.split(":")
-    return (word, *["abcd".index(letter) for letter in lines])
-
-
-def calls_in(text):
-    calls = []
-    for word in text.split():
-        lines, how, *hid = word.split(":")
-        calls.append(("abcd".index(lines[0]), "abcd".index(lines[1]), how, len(hid)))
-    return tuple(sorted(calls))
-
-
-def calls_text(calls):
-    return " ".join("abcd"[call[0]] + "abcd"[call[1]] + ":" + call[2] + ":hid" * call[3] for call in calls)
-
-
-def events_text(events):
-    return " ".join(":".join((word, *["abcd"[line] for line in lines])) + ":hid" * hid for word, lines, hid in events)
-
-
-def pattern_in(word):
-    return None if word == "*" else tuple("abcd".index(letter) for letter in word)
-
-
-def rule_in(row):
-    state, kind, pattern, tests, act, then = row.split()
-    tests = () if tests == "-" else tuple(tests.split(","))
-    return (int(state), kind, pattern_in(pattern), tests, deed_in(act), int(then))
-
-
-def tale_rule_in(row):
-    tale, state, word, patterns, tests, then = row.split()
-    patterns = () if patterns == "-" else tuple(pattern_in(each) for each in patterns.split(","))
-    tests = () if tests == "-" else tuple(tests.split(","))
-    return (int(state), word, patterns, tests, None if then == "!" else int(then))
-
-
-def wish_in(letter, *rows):
-    rules = tuple(rule_in(row) for row in rows if not row.startswith("tale"))
-    tale = tuple(tale_rule_in(row) for row in rows if row.startswith("tale"))
-    return ("abcd".index(letter), rules, tale)
-
-
-def house_of(*wishes, n=4):
-    """A house; each wish is (letter of its line, row, row, ..)."""
-    house = (n, tuple(wish_in(*wish) for wish in wishes), ())
-    assert is_house(house), house
-    return house
+from callwishes.wishes import all_deeds
+from helper import calls_in, calls_text, deed_in, events_text, house_of
 
 
 NO_WISHES = house_of()

@@ -41,6 +41,9 @@ FRAME_NAMES = {word for kind in (types.FrameType, types.TracebackType, types.Cod
 ON_THE_SPOT = {"zip", "enumerate", "reversed", "range"}
 TAKERS = {"list", "tuple", "dict", "sorted", "sum", "any", "all", "enumerate", "zip", "bytes", "min", "max"}
 FUNCTION_NODES = (ast.FunctionDef, ast.Lambda)
+GATHERERS = {"list", "tuple", "dict", "sorted", "sum", "min", "max", "any", "all"}
+VIEWS = {"items", "keys", "values"}
+CHANGES = set("append clear extend insert pop remove reverse setdefault sort update add discard".split())
 
 
 def read_files():
@@ -101,6 +104,44 @@ def local_names(function):
             names.append(node.id)
         if isinstance(node, ast.FunctionDef) and node != function:
             names.append(node.name)
+    return names
+
+
+def functions_seen(name):
+    """The own functions that a file can call by name, its own and imported ones."""
+    seen = {}
+    for part in TREES[name].body:
+        if isinstance(part, ast.FunctionDef):
+            seen[part.name] = part
+        elif isinstance(part, ast.ImportFrom) and part.module != "__future__":
+            for other in TREES[module_file(part.module)].body:
+                for alias in part.names:
+                    if isinstance(other, ast.FunctionDef) and other.name == alias.name:
+                        seen[alias.asname or alias.name] = other
+    return seen
+
+
+def gone_over(node):
+    """The names whose values a loop goes over, also through enumerate and the like."""
+    if isinstance(node, ast.Name):
+        return [node.id]
+    if isinstance(node, ast.Call) and isinstance(node.func, ast.Attribute) and node.func.attr in VIEWS:
+        return gone_over(node.func.value)
+    if isinstance(node, ast.Call) and isinstance(node.func, ast.Name) and node.func.id in ON_THE_SPOT - {"range"}:
+        return [name for part in node.args for name in gone_over(part)]
+    return []
+
+
+def changed_by(statements):
+    """The names whose values the statements change: by items, +=, or methods."""
+    names = []
+    for node in (each for statement in statements for each in ast.walk(statement)):
+        if isinstance(node, ast.Subscript) and not isinstance(node.ctx, ast.Load) and isinstance(node.value, ast.Name):
+            names.append(node.value.id)
+        if isinstance(node, ast.AugAssign) and isinstance(node.target, ast.Name):
+            names.append(node.target.id)
+        if isinstance(node, ast.Call) and isinstance(node.func, ast.Attribute) and node.func.attr in CHANGES:
+            names += [node.func.value.id] if isinstance(node.func.value, ast.Name) else []
     return names
 
 
@@ -202,6 +243,18 @@ class Language(unittest.TestCase):
             if isinstance(node, ast.Constant):
                 self.assertNotIsInstance(node.value, (float, complex), self.at(name, node))
 
+    def test_l7_generator_expressions(self):
+        for name, node, parent in with_parents():
+            if isinstance(node, ast.GeneratorExp):
+                self.assertIsInstance(parent, ast.Call, self.at(name, node))
+                is_join = isinstance(parent.func, ast.Attribute) and parent.func.attr == "join"
+                self.assertTrue(is_join or parent.func.id in GATHERERS, self.at(name, node))
+
+    def test_l7_comprehensions_are_short(self):
+        for name, node in nodes(ast.ListComp, ast.SetComp, ast.DictComp, ast.GeneratorExp):
+            self.assertLessEqual(len(node.generators), 6, self.at(name, node))
+            self.assertLessEqual(sum(len(part.ifs) for part in node.generators), 12, self.at(name, node))
+
     def test_l8_l22_builtins(self):
         for name, node, parent in with_parents():
             if not isinstance(node, ast.Name) or not hasattr(builtins, node.id):
@@ -251,6 +304,15 @@ class Language(unittest.TestCase):
             self.assertFalse(is_call and node.iter.func.id in ("set", "frozenset"), name)
             self.assertNotIsInstance(node.iter, (ast.Set, ast.SetComp), name)
 
+    def test_l24_where_sets_stand(self):
+        for name, node, parent in with_parents():
+            is_made = isinstance(node, ast.Call) and getattr(node.func, "id", "") == "set"
+            if is_made or isinstance(node, (ast.SetComp, ast.Set)):
+                is_asked = isinstance(parent, ast.Call) and getattr(parent.func, "id", "") in ("len", "sorted")
+                is_stored = isinstance(parent, ast.Assign) and isinstance(parent.targets[0], ast.Name)
+                self.assertTrue(is_asked or is_stored or isinstance(parent, (ast.Compare, ast.BinOp)),
+                                self.at(name, node))
+
     def test_l15_no_local_name_hides_another(self):
         for name, tree in TREES.items():
             imported = [each for part in tree.body if isinstance(part, ast.ImportFrom) for each in bound_by(part)]
@@ -262,7 +324,6 @@ class Language(unittest.TestCase):
                         self.assertFalse(hasattr(builtins, word), self.at(name, node) + " " + word)
 
     def test_l15_tables_are_only_read(self):
-        changes = ("append", "clear", "extend", "insert", "pop", "remove", "reverse", "setdefault", "sort", "update")
         for name, tree in TREES.items():
             tables = {part.targets[0].id for part in tree.body
                       if isinstance(part, ast.Assign) and isinstance(part.value, (ast.List, ast.Dict))}
@@ -270,7 +331,7 @@ class Language(unittest.TestCase):
                 if isinstance(node, ast.Subscript) and isinstance(node.value, ast.Name) and node.value.id in tables:
                     self.assertIsInstance(node.ctx, ast.Load, self.at(name, node))
                 if isinstance(node, ast.Attribute) and isinstance(node.value, ast.Name) and node.value.id in tables:
-                    self.assertNotIn(node.attr, changes, self.at(name, node))
+                    self.assertNotIn(node.attr, CHANGES, self.at(name, node))
 
     def test_l17_words(self):
         for name, text in TEXTS.items():
@@ -288,6 +349,13 @@ class Language(unittest.TestCase):
         free = set("count index title find get join lower upper split strip copy add".split())
         self.assertEqual(assigned & of_builtins - free, set())
         self.assertNotIn("args", assigned)
+
+    def test_l18_attributes_that_are_read_are_assigned(self):
+        assigned = {node.attr for name, node in nodes(ast.Attribute) if isinstance(node.ctx, ast.Store)}
+        for name, node, parent in with_parents():
+            if isinstance(node, ast.Attribute) and isinstance(node.ctx, ast.Load):
+                if not (isinstance(parent, ast.Call) and parent.func is node):
+                    self.assertIn(node.attr, assigned, self.at(name, node))
 
     def test_l19_errors(self):
         for name, node in nodes(ast.ExceptHandler):
@@ -316,6 +384,30 @@ class Language(unittest.TestCase):
             if isinstance(node.func, ast.Name) and node.func.id in FUNCTIONS:
                 words = {keyword.arg for keyword in node.keywords}
                 self.assertLessEqual(words, allowed.get(node.func.id, set()), self.at(name, node))
+
+    def test_l22_calls_pass_what_is_taken(self):
+        for name in TREES:
+            seen = functions_seen(name)
+            for node in ast.walk(TREES[name]):
+                if not isinstance(node, ast.Call) or getattr(node.func, "id", "") not in seen:
+                    continue
+                if any(isinstance(part, ast.Starred) for part in node.args):
+                    continue
+                taken = seen[node.func.id].args
+                many = len(node.args) + len(node.keywords)
+                words = [part.arg for part in taken.args + taken.kwonlyargs]
+                self.assertLessEqual({part.arg for part in node.keywords}, set(words), self.at(name, node))
+                if taken.vararg is None and taken.kwarg is None:
+                    self.assertLessEqual(many, len(words), self.at(name, node))
+                    self.assertGreaterEqual(many, len(taken.args) - len(taken.defaults), self.at(name, node))
+
+    def test_l23_loops_dont_change_what_they_go_over(self):
+        for name, node in nodes(ast.For):
+            self.assertEqual(set(gone_over(node.iter)) & set(changed_by(node.body)), set(), self.at(name, node))
+        for name, node in nodes(ast.ListComp, ast.SetComp, ast.DictComp, ast.GeneratorExp):
+            names = {each for part in node.generators for each in gone_over(part.iter)}
+            statements = [part for part in ast.iter_child_nodes(node)]
+            self.assertEqual(names & set(changed_by(statements)), set(), self.at(name, node))
 
     def test_l23_iterated_on_the_spot(self):
         for name, node, parent in with_parents():

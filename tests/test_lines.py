@@ -5,36 +5,12 @@ import itertools
 import unittest
 
 from callwishes.lines import are_tests, fits, is_pattern, pattern_in, pattern_text
+from helper import Thorny, nested, shared
 
 ALL_TESTS = (
     "night", "day", "talk", "mute", "held", "bare",
     "shown", "clear", "idle", "used", "hid", "named",
 )
-
-
-class Thorny:
-    """Hurts whoever does more with it than ask of which kind it is."""
-
-    def hurt(self, *args):
-        raise RuntimeError("a thing of no known kind was used")
-
-    __eq__ = __ne__ = __lt__ = __le__ = __gt__ = __ge__ = hurt
-    __hash__ = __len__ = __iter__ = __bool__ = __getitem__ = __contains__ = hurt
-    __index__ = __int__ = __str__ = __repr__ = __add__ = __radd__ = hurt
-
-
-def nested(kind, deep):
-    thing = 0
-    for _ in range(deep):
-        thing = kind((thing,))
-    return thing
-
-
-def shared(deep):
-    thing = ()
-    for _ in range(deep):
-        thing = (thing, thing)
-    return thing
 
 
 # No thing of these is a pattern, a tuple of tests, or a part of either.

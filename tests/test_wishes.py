@@ -4,6 +4,7 @@ import itertools
 import unittest
 
 from callwishes.wishes import all_deeds, is_house, is_wish
+from helper import Thorny, found, nested, places_in, put
 
 ACTS = {
     "out": ("bar", "hide"),
@@ -34,24 +35,6 @@ DEEDS = (("dial", 0, 1), ("take", 2), ("wait",), ("turn",))
 HOUSE = (3, (WISH, (2, (), ())), DEEDS)
 
 
-class Thorny:
-    """Hurts whoever does more with it than ask of which kind it is."""
-
-    def hurt(self, *args):
-        raise RuntimeError("a thing of no known kind was used")
-
-    __eq__ = __ne__ = __lt__ = __le__ = __gt__ = __ge__ = hurt
-    __hash__ = __len__ = __iter__ = __bool__ = __getitem__ = __contains__ = hurt
-    __index__ = __int__ = __str__ = __repr__ = __add__ = __radd__ = hurt
-
-
-def nested(kind, deep):
-    thing = 0
-    for _ in range(deep):
-        thing = kind((thing,))
-    return thing
-
-
 # None of these can stand anywhere in a house.
 ODD_THINGS = [
     True, False, -1, 8, 99, 10 ** 50, 1.0, float("nan"), "", "x", "In", b"in", [], [0], {}, {0: 1}, set(), {0},
@@ -66,28 +49,6 @@ def with_rule(rule, n=4, me=0):
 
 def with_tale_rule(rule, n=4, me=0):
     return is_wish((me, (), (rule,)), n)
-
-
-def places_in(thing, place=()):
-    """The places of all parts of a tuple, and of their parts."""
-    yield place
-    if isinstance(thing, tuple):
-        for at, part in enumerate(thing):
-            yield from places_in(part, place + (at,))
-
-
-def put(thing, place, part):
-    """The thing with another part at the place."""
-    if not place:
-        return part
-    at = place[0]
-    return thing[:at] + (put(thing[at], place[1:], part),) + thing[at + 1:]
-
-
-def found(thing, place):
-    for at in place:
-        thing = thing[at]
-    return thing
 
 
 class Rules(unittest.TestCase):
