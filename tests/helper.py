@@ -4,6 +4,8 @@ Calls are written as ab:talk or ab:talk:hid, events as rings:a:b or rings:a:b:hi
 `0 in * night send:c 0`, tales' rules as in `tale 0 comes *,b used 1`, with `!` for broken, deeds as dial:a:b.
 """
 
+import unittest
+
 from callwishes.wishes import all_deeds, is_house
 
 
@@ -144,6 +146,9 @@ ODD_PARTS = [
     ("x",), (True,), (None,), (Thorny(),), ([],), ({},), (1.0,), nested(tuple, 30), nested(list, 30), shared(30),
 ]
 
+WHOLE_THINGS = [*ODD_PARTS, None, (), "quiet", "quarrel", ("quiet",), ("quarrel",), ["quiet", ()], {"quiet": ()},
+                nested(tuple, 40), nested(list, 40), nested(tuple, 39), shared(40)]
+
 
 def places_in(thing, place=()):
     """The places of all parts of a tuple, and of their parts."""
@@ -165,6 +170,29 @@ def found(thing, place):
     for at in place:
         thing = thing[at]
     return thing
+
+
+class LookCase(unittest.TestCase):
+    def check_odd_parts(self, look, thing):
+        """Spoilt by an odd part in any place, the thing isn't taken any more."""
+        self.assertIs(look(thing), True)
+        for place in places_in(thing):
+            for at, part in enumerate(ODD_PARTS):
+                self.assertIs(look(put(thing, place, part)), False, (place, at))
+
+    def check_kinds(self, look, thing):
+        """Neither a list for a tuple, nor a truth for a number, nor a part more is taken."""
+        for place in places_in(thing):
+            part = found(thing, place)
+            if isinstance(part, tuple):
+                self.assertIs(look(put(thing, place, list(part))), False, place)
+                self.assertIs(look(put(thing, place, (*part, Thorny()))), False, place)
+            if part in (0, 1) and isinstance(part, int):
+                self.assertIs(look(put(thing, place, bool(part))), False, place)
+                self.assertIs(look(put(thing, place, float(part))), False, place)
+            if isinstance(part, str):
+                self.assertIs(look(put(thing, place, part.encode())), False, place)
+                self.assertIs(look(put(thing, place, part.upper())), False, place)
 
 
 def has_told_kinds(told):

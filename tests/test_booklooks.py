@@ -8,38 +8,13 @@ from callwishes.books import quiet_paper, scenes_of
 from callwishes.points import begun
 from callwishes.runs import broken, ran
 from helper import (
-    ALWAYS, BACK, ENGAGED, HOLD, KEPTOUT, ODD_PARTS, PARK, SECOND, SMALL_HOUSES, THREE, Thorny, found, house_of,
-    nested, places_in, put, row_in, scene_of, shared,
+    ALWAYS, BACK, ENGAGED, HOLD, KEPTOUT, PARK, SECOND, SMALL_HOUSES, THREE, WHOLE_THINGS, LookCase, found, house_of,
+    places_in, put, row_in, scene_of,
 )
 
 HOWS = ("ring", "show", "talk", "hold0", "hold1", "busy", "shut", "back")
 HOUSE = house_of(ALWAYS, KEPTOUT, n=3, deeds="all")
 SCENE = (((0, 1, "hold0", 1), (2, 0, "talk", 0), (2, 1, "busy", 0)), 1, (0, 7), (None, 3))
-WHOLE_THINGS = [*ODD_PARTS, None, (), "quiet", "quarrel", ("quiet",), ("quarrel",), ["quiet", ()], {"quiet": ()},
-                nested(tuple, 40), nested(list, 40), nested(tuple, 39), shared(40)]
-
-
-class LookCase(unittest.TestCase):
-    def check_odd_parts(self, look, thing):
-        """Spoilt by an odd part in any place, the thing isn't taken any more."""
-        self.assertIs(look(thing), True)
-        for place in places_in(thing):
-            for at, part in enumerate(ODD_PARTS):
-                self.assertIs(look(put(thing, place, part)), False, (place, at))
-
-    def check_kinds(self, look, thing):
-        """Neither a list for a tuple, nor a truth for a number, nor a part more is taken."""
-        for place in places_in(thing):
-            part = found(thing, place)
-            if isinstance(part, tuple):
-                self.assertIs(look(put(thing, place, list(part))), False, place)
-                self.assertIs(look(put(thing, place, (*part, Thorny()))), False, place)
-            if part in (0, 1) and isinstance(part, int):
-                self.assertIs(look(put(thing, place, bool(part))), False, place)
-                self.assertIs(look(put(thing, place, float(part))), False, place)
-            if isinstance(part, str):
-                self.assertIs(look(put(thing, place, part.encode())), False, place)
-                self.assertIs(look(put(thing, place, part.upper())), False, place)
 
 
 class IsScene(LookCase):
