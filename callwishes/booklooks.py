@@ -27,17 +27,22 @@ def are_calls(thing, n):
     return len(set(pairs)) == len(pairs) and list(thing) == sorted(thing)
 
 
-def is_scene(house, thing):
-    """Whether a thing of any kind is a scene of the house, whether or not deeds lead to it."""
-    if not is_tuple_of(thing, 4):
+def is_bare_scene(house, thing):
+    """Whether a thing of any kind is a scene of the house without its tales: (calls, night, minds)."""
+    if not is_tuple_of(thing, 3):
         return False
-    calls, night, minds, tales = thing
+    calls, night, minds = thing
     if not are_calls(calls, house[0]) or not is_below(night, 2):
         return False
-    many = len(house[1])
-    if not is_tuple_of(minds, many) or not is_tuple_of(tales, many):
+    return is_tuple_of(minds, len(house[1])) and all(is_below(state, STATES) for state in minds)
+
+
+def is_scene(house, thing):
+    """Whether a thing of any kind is a scene of the house, whether or not deeds lead to it."""
+    if not is_tuple_of(thing, 4) or not is_bare_scene(house, thing[:3]):
         return False
-    if not all(is_below(state, STATES) for state in minds):
+    tales = thing[3]
+    if not is_tuple_of(tales, len(house[1])):
         return False
     return all(state is None or is_below(state, STATES) for state in tales)
 

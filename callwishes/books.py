@@ -9,7 +9,7 @@ MOST_SCENES = 2000
 
 
 def check_many(scenes):
-    """Refuses more scenes than a book may hold."""
+    """Refuses more scenes, or pairs of them, than are gone through."""
     if len(scenes) > MOST_SCENES:
         raise TooMany(f"more than {MOST_SCENES} scenes")
 

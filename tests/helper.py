@@ -113,6 +113,12 @@ def counting(line, deed, states, *rows):
     return (line, *counts, *rows)
 
 
+def orbit(line, kind, tail, cycle):
+    """A wish of the line whose mind goes by a deed of this kind through a tail of states, then round a cycle."""
+    last = tail + cycle - 1
+    return (line, *[f"{state} {kind} * - pass {state + 1 if state < last else tail}" for state in range(last + 1)])
+
+
 class Thorny:
     """Hurts whoever does more with it than ask of which kind it is."""
 
