@@ -1,6 +1,8 @@
 """Lines, patterns of lines, and the tests that are asked of a line."""
 
 LETTERS = "abcd"
+# Lines that no house has can be shown, too, but are never read.
+SHOWN_LETTERS = "abcdefgh"
 
 TESTS = (
     "night", "day", "talk", "mute", "held", "bare",
@@ -39,11 +41,16 @@ def fits(pattern, line):
     return pattern is None or line in pattern
 
 
+def letter_of(line):
+    """The line as it stands in texts."""
+    return SHOWN_LETTERS[line:line + 1]
+
+
 def pattern_text(pattern):
     """The pattern as it stands in texts."""
     if pattern is None:
         return "*"
-    return "".join(LETTERS[line] for line in pattern)
+    return "".join(letter_of(line) for line in pattern)
 
 
 def pattern_in(word):

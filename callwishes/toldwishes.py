@@ -1,9 +1,9 @@
 """Told wishes: those that have a name, with their rules and tales."""
 
 from callwishes.errors import NoWish
-from callwishes.lines import LETTERS, is_below, is_pattern, pattern_text
+from callwishes.lines import is_below, is_pattern, letter_of, pattern_text
 from callwishes.ruletexts import rule_in, tale_rule_in
-from callwishes.wishes import is_tuple_of
+from callwishes.wishes import MOST_LINES, is_tuple_of
 
 # Rules and the tale's rules; M is the wish's own line, X its one other line, R its row of lines. Only these are great
 # letters, so that they can be put in as they stand.
@@ -55,26 +55,25 @@ NAMES_WITH_ROW = ("barred", "keptout")
 
 def are_lines_of(name, me, lines):
     """Whether a told wish of this name, of line me, has such lines."""
-    if name not in NAMES_WITH_LINE and name not in NAMES_WITH_ROW:
-        return is_tuple_of(lines, 0)
-    if not is_tuple_of(lines, 1) and name in NAMES_WITH_LINE:
-        return False
-    return lines is not None and is_pattern(lines, len(LETTERS)) and me not in lines
+    if name in NAMES_WITH_LINE:
+        return is_tuple_of(lines, 1) and is_below(lines[0], MOST_LINES) and lines[0] != me
+    if name in NAMES_WITH_ROW:
+        return lines is not None and is_pattern(lines, MOST_LINES) and me not in lines
+    return is_tuple_of(lines, 0)
 
 
 def words_of(row, me, lines):
     """The words of a told row, with the letters of the wish's lines put in."""
     letters = pattern_text(lines)
-    return row.replace("M", LETTERS[me]).replace("X", letters).replace("R", letters).split(" ")
+    return row.replace("M", letter_of(me)).replace("X", letters).replace("R", letters).split(" ")
 
 
 def told_wish(name, me, lines):
     """The told wish of this name, of line me."""
-    if not isinstance(name, str) or name not in RULES or not is_below(me, len(LETTERS)):
+    if not isinstance(name, str) or name not in RULES or not is_below(me, MOST_LINES):
         raise NoWish("no told wish has such a name and line")
     if not are_lines_of(name, me, lines):
         raise NoWish(f"no told wish {name} has such lines")
-    n = len(LETTERS)
-    rules = tuple(rule_in(words_of(row, me, lines), me, n) for row in RULES[name])
-    tale = tuple(tale_rule_in(words_of(row, me, lines), n) for row in TALES[name])
+    rules = tuple(rule_in(words_of(row, me, lines), me, MOST_LINES) for row in RULES[name])
+    tale = tuple(tale_rule_in(words_of(row, me, lines), MOST_LINES) for row in TALES[name])
     return (me, rules, tale)

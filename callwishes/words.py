@@ -3,7 +3,7 @@
 A word that is none is read as what no look takes, -1 for a number; the looks at whole rows then refuse it.
 """
 
-from callwishes.lines import LETTERS, pattern_in
+from callwishes.lines import LETTERS, letter_of, pattern_in
 
 FIGURES = "01234567"
 
@@ -28,6 +28,11 @@ def parts_in(word):
     return [] if word == "-" else word.split(",")
 
 
+def joined(parts):
+    """The word to which commas join the parts, `-` of none."""
+    return ",".join(parts) if len(parts) > 0 else "-"
+
+
 def patterns_in(word):
     """The patterns that commas join to the word."""
     return tuple(pattern_in(part) for part in parts_in(word))
@@ -37,3 +42,9 @@ def lined_in(word):
     """(word, line, ..) of a word with the letters of its lines behind it, each behind a colon."""
     head, *letters = word.split(":")
     return (head, *[line_in(letter) for letter in letters])
+
+
+def lined_text(thing):
+    """The word that lined_in reads as this tuple."""
+    head, *lines = thing
+    return ":".join([head, *[letter_of(line) for line in lines]])

@@ -6,6 +6,7 @@ Calls are written as ab:talk or ab:talk:hid, events as rings:a:b or rings:a:b:hi
 
 import unittest
 
+from callwishes.showing import show_house
 from callwishes.wishes import all_deeds, is_house
 
 
@@ -62,6 +63,11 @@ def house_of(*wishes, n=4, deeds=""):
     house = (n, tuple(wish_in(*wish) for wish in wishes), all_deeds(n) if deeds == "all" else row_in(deeds))
     assert is_house(house), house
     return house
+
+
+def sheet_of(house, *questions):
+    """A sheet of the house."""
+    return "\n".join((show_house(house), "ask", *questions))
 
 
 def scene_of(house, calls="", night=0, minds=None, tales=None):
