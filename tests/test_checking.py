@@ -203,6 +203,11 @@ class Orders(unittest.TestCase):
         self.assertEqual(checked(text, "order 0 1"), (True,))
         self.assertEqual(checked(text, "order 1 0"), (False,))
         self.assertEqual(checked(text, "toomany"), (False,))
+        # Where the first order is too many, any quiet one behind it is right all the same.
+        text = sheet_of(with_order(MANY_BY_ORDER, (1, 0)), "order")
+        self.assertEqual(answers(text), "toomany")
+        for told, is_taken in (("toomany", True), ("order 1 0", True), ("order 0 1", False), ("none turn; turn", False)):
+            self.assertEqual(checked(text, told), (is_taken,), told)
 
     def test_of_none_any_shortest_rows(self):
         house = house_of(("b", "tale 0 rings *,b night !"), ("a",), n=3, deeds="dial:a:b dial:c:b turn")
